@@ -9,11 +9,11 @@ func turn[W ~uint32](w W, n int) W {
 
 // compress is what s comes to with b mixed in.
 func compress(s state, b block) state {
-	words := schedule(b)
+	words, fixed := schedule(b), keyWords()
 	// In a round eight words of their own are some three times as fast as an array of them.
 	v0, v1, v2, v3, v4, v5, v6, v7 := s[0], s[1], s[2], s[3], s[4], s[5], s[6], s[7]
 	for i := range rounds {
-		one := v7 + high(v4) + choose(v4, v5, v6) + keys[i] + words[i]
+		one := v7 + high(v4) + choose(v4, v5, v6) + fixed[i] + words[i]
 		two := low(v0) + most(v0, v1, v2)
 		v0, v1, v2, v3, v4, v5, v6, v7 = one+two, v0, v1, v2, v3+one, v4, v5, v6
 	}

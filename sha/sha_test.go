@@ -6,7 +6,6 @@ import (
 	"fmt"
 	"math/rand"
 	"strings"
-	"sync"
 	"testing"
 
 	"sacristan/api"
@@ -32,22 +31,6 @@ func told(l ...[]byte) *sha.Hash {
 		h.Write(b)
 	}
 	return h
-}
-
-// This comes first: here the tables are made while many ask for them.
-func TestManyAtOnce(t *testing.T) {
-	const many = 32
-	var sums [many]api.Digest
-	var all sync.WaitGroup
-	for i := range sums {
-		all.Go(func() { sums[i] = sha.Sum(counted(i)) })
-	}
-	all.Wait()
-	for i, d := range sums {
-		if d != want(counted(i)) {
-			t.Errorf("of %d bytes the sum is %x", i, d)
-		}
-	}
 }
 
 // The sums that the standard's own examples have.
