@@ -6,12 +6,18 @@ import "sync"
 const rounds = 64
 
 // The tables that the document's Ways ask for, made once of the functions below. They stand beside these:
-// New reads them, but every answer is worked out by the functions, so that none hangs on what is filled later.
+// Tables alone runs and reads them, so that no sum hangs on what is filled later.
 var (
 	making sync.Once
 	start  state
 	keys   [rounds]uint32
 )
+
+// Tables: where each sum begins, and a word a round.
+func Tables() (begin [8]uint32, each [rounds]uint32) {
+	making.Do(makeTables)
+	return start, keys
+}
 
 // makeTables fills them.
 func makeTables() {

@@ -13,6 +13,8 @@ import (
 func TestManyAtOnce(t *testing.T) {
 	const many = 32
 	var sums, told [many]api.Digest
+	var begins [many][8]uint32
+	var words [many][rounds]uint32
 	var all sync.WaitGroup
 	for i := range many {
 		all.Go(func() {
@@ -20,12 +22,16 @@ func TestManyAtOnce(t *testing.T) {
 			h.Write(make([]byte, i))
 			told[i] = h.Copy().Sum()
 			sums[i] = Sum(make([]byte, i))
+			begins[i], words[i] = Tables()
 		})
 	}
 	all.Wait()
 	for i := range many {
 		if want := sha256.Sum256(make([]byte, i)); sums[i] != want || told[i] != want {
 			t.Errorf("of %d bytes the sums are %x and %x", i, sums[i], told[i])
+		}
+		if begins[i] != startWords() || words[i] != keyWords() {
+			t.Errorf("of the askers at one time, %d is told other tables", i)
 		}
 	}
 }
@@ -67,27 +73,40 @@ func TestWordsAreThePrimes(t *testing.T) {
 	}
 }
 
-// Behind a New the tables stand, and are made no second time.
+// emptyTables lets the tables be as they are ahead of every call.
+func emptyTables() {
+	making, start, keys = sync.Once{}, state{}, [rounds]uint32{}
+}
+
+// Tables tells what the functions write out, and makes it no second time.
 func TestTablesAreMadeOnce(t *testing.T) {
-	New()
-	if start != startWords() || keys != keyWords() {
-		t.Error("the tables are not what the functions tell")
+	defer emptyTables()
+	emptyTables()
+	for range 2 {
+		if begin, each := Tables(); begin != startWords() || each != keyWords() {
+			t.Error("the tables are not what the functions tell")
+		}
 	}
-	defer makeTables()
 	start, keys = state{}, [rounds]uint32{}
-	New()
-	if start != (state{}) || keys != ([rounds]uint32{}) {
+	if begin, each := Tables(); begin != (state{}) || each != ([rounds]uint32{}) {
 		t.Error("the tables are made a second time")
 	}
 }
 
-// No answer hangs on the tables: whatever they hold, all calls tell the same.
-func TestNoAnswerHangsOnTheTables(t *testing.T) {
-	New()
-	defer makeTables()
-	start, keys = state{1}, [rounds]uint32{2, 3}
+// Who changes what Tables told changes no table.
+func TestTablesAreApart(t *testing.T) {
+	begin, each := Tables()
+	begin[0], each[0] = 1, 2
+	if begin, each := Tables(); begin != startWords() || each != keyWords() {
+		t.Error("what was told is the tables themselves")
+	}
+}
+
+// holdsCalls holds every call of the chapter against another SHA-256.
+func holdsCalls(t *testing.T) {
+	t.Helper()
 	b := make([]byte, 150)
-	want := sha256.Sum256(b)
+	want := api.Digest(sha256.Sum256(b))
 	h := New()
 	h.Write(b[:100])
 	c := h.Copy()
@@ -95,5 +114,26 @@ func TestNoAnswerHangsOnTheTables(t *testing.T) {
 	c.Write(b[100:])
 	if Sum(b) != want || h.Sum() != want || c.Sum() != want || New().Sum() != sha256.Sum256(nil) {
 		t.Error("an answer hangs on the tables")
+	}
+}
+
+// No answer hangs on the tables: whatever they hold, all calls tell the same.
+func TestNoAnswerHangsOnTheTables(t *testing.T) {
+	defer emptyTables()
+	Tables()
+	start, keys = state{1}, [rounds]uint32{2, 3}
+	holdsCalls(t)
+	if start != (state{1}) || keys != ([rounds]uint32{2, 3}) {
+		t.Error("a call fills the tables")
+	}
+}
+
+// All calls do without the tables: none makes them.
+func TestCallsDoWithoutTheTables(t *testing.T) {
+	defer emptyTables()
+	emptyTables()
+	holdsCalls(t)
+	if start != (state{}) || keys != ([rounds]uint32{}) {
+		t.Error("a call makes the tables")
 	}
 }
