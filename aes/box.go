@@ -14,13 +14,17 @@ const (
 // table is the box, byte by byte.
 type table [256]byte
 
-// The box, made once, ahead of its first use.
+// The box that the document's Ways ask for, made once. It stands beside the calls of the chapter: Table alone
+// runs and reads it, so that no answer hangs on what is filled later.
 var (
 	making sync.Once
 	box    table
 )
 
-// theBox is the box; whoever is handed it only reads.
+// Table: the whole box.
+func Table() [256]byte { return *theBox() }
+
+// theBox is the one that is made once; whoever is handed it only reads.
 func theBox() *table {
 	making.Do(func() { box = makeBox() })
 	return &box
@@ -28,31 +32,33 @@ func theBox() *table {
 
 // makeBox is, of each byte, its inverse in the field, mixed with itself turned.
 func makeBox() table {
-	var t table
-	for i := range t {
-		inverse := invert(byte(i))
-		mixed := inverse ^ added
-		for n := range turns {
-			mixed ^= turn(inverse, n+1)
-		}
-		t[i] = mixed
+	// The powers of 3 are all bytes but 0, and behind 255 of them they begin again: an inverse is as far from there
+	// as its byte is from the first. To work each out by itself takes some ten times as long, and calls wait for it.
+	var powers [255]byte
+	power := byte(1)
+	for i := range powers {
+		powers[i] = power
+		power ^= double(power)
+	}
+	// 0 has no inverse, and counts as its own.
+	t := table{blend(0)}
+	for i, c := range powers {
+		t[c] = blend(powers[(len(powers)-i)%len(powers)])
 	}
 	return t
 }
 
-// invert is c to the power of 254: the inverse of c, as to the power of 255 all but 0 are 1; 0 of 0.
-func invert(c byte) byte {
-	power, product := c, byte(1)
-	// 254 is all bits of a byte but the lowest.
-	for range 7 {
-		power = Mul(power, power)
-		product = Mul(product, power)
+// blend is c mixed with itself turned.
+func blend(c byte) byte {
+	mixed := c ^ added
+	for n := range turns {
+		mixed ^= turn(c, n+1)
 	}
-	return product
+	return mixed
 }
 
 // Box: of a byte.
-func Box(c byte) byte { return theBox()[c] }
+func Box(c byte) byte { return makeBox()[c] }
 
 // Mul: in the field.
 func Mul(a byte, b byte) byte {

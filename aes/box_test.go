@@ -12,6 +12,7 @@ func TestManyAtOnce(t *testing.T) {
 	const many = 32
 	var blocks, again [many]api.Nonce
 	var boxed [many]byte
+	var whole [many][256]byte
 	var all sync.WaitGroup
 	shared := New(api.Key{1})
 	for i := range many {
@@ -19,13 +20,14 @@ func TestManyAtOnce(t *testing.T) {
 			boxed[i] = Box(0x53)
 			blocks[i] = New(api.Key{1}).Block(api.Nonce{2})
 			again[i] = shared.Block(api.Nonce{2})
+			whole[i] = Table()
 		})
 	}
 	all.Wait()
 	want := New(api.Key{1}).Block(api.Nonce{2})
 	for i := range many {
-		if boxed[i] != 0xed || blocks[i] != want || again[i] != want {
-			t.Errorf("of the askers at one time, %d is told %02x, %x and %x", i, boxed[i], blocks[i], again[i])
+		if boxed[i] != 0xed || blocks[i] != want || again[i] != want || whole[i] != makeBox() {
+			t.Errorf("of the askers at one time, %d is told %02x, %x and %x, or another box", i, boxed[i], blocks[i], again[i])
 		}
 	}
 }
@@ -35,58 +37,126 @@ func emptyBox() {
 	making, box = sync.Once{}, table{}
 }
 
-// Whichever call comes first, the box is made ahead of it.
-func TestTheBoxIsMadeFirst(t *testing.T) {
-	defer emptyBox()
-	want := New(api.Key{3}).Block(api.Nonce{4})
-	for name, call := range map[string]func(){
-		"Box":    func() { Box(0) },
-		"New":    func() { New(api.Key{}) },
-		"Block":  func() { new(Cipher).Block(api.Nonce{}) },
-		"Stream": func() { new(Cipher).Stream(api.Nonce{}, 1) },
-		"Xor":    func() { new(Cipher).Xor(api.Nonce{}, []byte{1}) },
-	} {
-		emptyBox()
-		call()
-		if box != makeBox() {
-			t.Errorf("behind %s the box is not made", name)
-		}
-		if New(api.Key{3}).Block(api.Nonce{4}) != want || Box(0x53) != 0xed {
-			t.Errorf("behind %s another block comes out", name)
-		}
-	}
-}
-
-// The box is made no second time, and all are handed the same one.
+// Table tells the box of each byte, and makes it no second time: all are handed the same one.
 func TestTheBoxIsMadeOnce(t *testing.T) {
 	defer emptyBox()
 	emptyBox()
+	for range 2 {
+		for c, b := range Table() {
+			if b != Box(byte(c)) {
+				t.Errorf("of %02x the table has %02x, not %02x", c, b, Box(byte(c)))
+			}
+		}
+	}
 	if theBox() != theBox() || *theBox() != makeBox() {
 		t.Error("there is more than one box, or another")
 	}
 	box = table{}
-	New(api.Key{}).Stream(api.Nonce{}, 100)
-	Box(1)
-	if box != (table{}) {
+	if Table() != (table{}) {
 		t.Error("the box is made a second time")
 	}
 }
 
-// Each byte but 0 has an inverse in the field, and is that of its own; no two bytes share a place of the box.
-func TestInverses(t *testing.T) {
-	if invert(0) != 0 || invert(1) != 1 {
-		t.Errorf("the inverse of 0 is %02x, of 1 %02x", invert(0), invert(1))
+// Who changes what Table told changes no box.
+func TestTablesAreApart(t *testing.T) {
+	whole := Table()
+	whole[0], whole[0x53] = 1, 2
+	if Table() != makeBox() || Box(0) != 0x63 || Box(0x53) != 0xed {
+		t.Error("what was told is the box itself")
 	}
-	var seen [256]bool
+}
+
+// holdsCalls holds every call of the chapter against the standards' own examples.
+func holdsCalls(t *testing.T) {
+	t.Helper()
+	c := New(api.Key{0x2b, 0x7e, 0x15, 0x16, 0x28, 0xae, 0xd2, 0xa6, 0xab, 0xf7, 0x15, 0x88, 0x09, 0xcf, 0x4f, 0x3c})
+	in := api.Nonce{0x32, 0x43, 0xf6, 0xa8, 0x88, 0x5a, 0x30, 0x8d, 0x31, 0x31, 0x98, 0xa2, 0xe0, 0x37, 0x07, 0x34}
+	out := api.Nonce{0x39, 0x25, 0x84, 0x1d, 0x02, 0xdc, 0x09, 0xfb, 0xdc, 0x11, 0x85, 0x97, 0x19, 0x6a, 0x0b, 0x32}
+	hidden := out
+	hidden[2] ^= 9
+	if c.Block(in) != out || api.Nonce(c.Stream(in, 16)) != out || api.Nonce(c.Xor(in, []byte{2: 9, 15: 0})) != hidden {
+		t.Error("what is enciphered hangs on the box that is made once")
+	}
+	if Box(0) != 0x63 || Box(0x53) != 0xed || Mul(0x57, 0x83) != 0xc1 || Next(api.Nonce{15: 0xff}, 1) != (api.Nonce{14: 1}) {
+		t.Error("an answer hangs on the box that is made once")
+	}
+}
+
+// No answer hangs on the box that is made once: whatever it holds, all calls tell the same.
+func TestNoAnswerHangsOnTheBox(t *testing.T) {
+	defer emptyBox()
+	Table()
+	scrambled := table{3, 2, 1}
+	box = scrambled
+	holdsCalls(t)
+	if box != scrambled {
+		t.Error("a call fills the box")
+	}
+}
+
+// All calls do without it: none makes it.
+func TestCallsDoWithoutTheBox(t *testing.T) {
+	defer emptyBox()
+	emptyBox()
+	holdsCalls(t)
+	if box != (table{}) {
+		t.Error("a call makes the box")
+	}
+	made := false
+	making.Do(func() { made = true })
+	if !made {
+		t.Error("a call runs the making of the box")
+	}
+}
+
+// What a Cipher that New did not make tells hangs on no box that is made once.
+func TestCipherOfNoughtsDoesWithoutTheBox(t *testing.T) {
+	defer emptyBox()
+	emptyBox()
+	var c Cipher
+	was := c.Block(api.Nonce{1})
+	Table()
+	if c.Block(api.Nonce{1}) != was || was == (api.Nonce{}) || box == (table{}) {
+		t.Error("a call ahead of Table tells another block than one behind it")
+	}
+}
+
+// inverse is found among all bytes; 0 has none, and counts as its own.
+func inverse(c byte) byte {
 	for i := range 256 {
-		c := byte(i)
-		if c != 0 && Mul(c, invert(c)) != 1 || invert(invert(c)) != c {
-			t.Errorf("the inverse of %02x is %02x", c, invert(c))
+		if Mul(c, byte(i)) == 1 {
+			return byte(i)
 		}
-		if seen[Box(c)] || Box(c) == c {
-			t.Errorf("the box of %02x is its own, or another's", c)
+	}
+	return 0
+}
+
+// The box is each byte's inverse, of which each bit is mixed with four others, as the standard tells it.
+func TestTheBoxIsInverses(t *testing.T) {
+	for i, b := range makeBox() {
+		c := inverse(byte(i))
+		var want byte
+		for bit := range 8 {
+			x := byte(0x63)>>bit ^ c>>bit
+			for _, n := range []int{4, 5, 6, 7} {
+				x ^= c >> ((bit + n) % 8)
+			}
+			want |= x & 1 << bit
 		}
-		seen[Box(c)] = true
+		if b != want {
+			t.Errorf("the box of %02x is %02x, not %02x", i, b, want)
+		}
+	}
+}
+
+// No two bytes share a place of the box, and none is its own.
+func TestTheBoxIsApart(t *testing.T) {
+	var seen [256]bool
+	for i, b := range makeBox() {
+		if seen[b] || b == byte(i) || b == ^byte(i) {
+			t.Errorf("the box of %02x is its own, or another's", i)
+		}
+		seen[b] = true
 	}
 }
 
